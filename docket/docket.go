@@ -1,0 +1,59 @@
+// Package docket: transactions that are put into an order first and done then: see DOC.md.
+package docket
+
+import (
+	"docket/api"
+	"docket/transaction"
+)
+
+// Cluster is a sequencer with its clients' queues, the log, and replicas.
+type Cluster struct{}
+
+// Apply does a transaction on cells (P3).
+func Apply(text string, cells api.Cells) (api.Cells, bool, api.Errno) {
+	t, ok := transaction.Parse(text)
+	if !ok {
+		return cells, false, api.ErrText
+	}
+	after, done := t.Do(cells)
+	return after, done, api.OK
+}
+
+// Frame writes an epoch (P4).
+func Frame(n int, records []api.Record) (string, api.Errno) { return "", api.OK }
+
+// Scan tells how many epochs a log begins with, and how many bytes these are (P5).
+func Scan(log string) (int, int) { return 0, 0 }
+
+// New makes a cluster (P6).
+func New(c api.Conf) (*Cluster, api.Errno) { return nil, api.OK }
+
+// Submit hands in a transaction (P7).
+func (c *Cluster) Submit(client int, id int, text string, deadline int) api.Errno { return api.OK }
+
+// Fill fills the next epoch (P8).
+func (c *Cluster) Fill() (int, api.Errno) { return 0, api.OK }
+
+// Log tells all epochs as bytes (P9).
+func (c *Cluster) Log() string { return "" }
+
+// Reply tells what became of a transaction (P9).
+func (c *Cluster) Reply(id int) (api.Reply, api.Errno) { return api.Reply{}, api.OK }
+
+// Send brings an epoch to a replica (P10).
+func (c *Cluster) Send(replica int, n int) api.Errno { return api.OK }
+
+// Sync makes what a replica has safe (P10).
+func (c *Cluster) Sync(replica int) api.Errno { return api.OK }
+
+// Crash lets a replica lose what was not safe (P11).
+func (c *Cluster) Crash(replica int, keep int) api.Errno { return api.OK }
+
+// Disk tells a replica's bytes (P12).
+func (c *Cluster) Disk(replica int) (string, api.Errno) { return "", api.OK }
+
+// Count tells how many epochs a replica has (P12).
+func (c *Cluster) Count(replica int) (int, api.Errno) { return 0, api.OK }
+
+// Get tells what a key holds at a replica (P12).
+func (c *Cluster) Get(replica int, key string) (int, api.Errno) { return 0, api.OK }
