@@ -95,29 +95,6 @@ func callAtOddArguments(t *testing.T, c *docket.Cluster) {
 	c.Log()
 }
 
-func TestFrameLeavesItsListAlone(t *testing.T) {
-	whole := []api.Record{
-		{Client: 1, ID: 2, Text: "a|a=1"},
-		{Client: 3, ID: 4, Expired: true},
-		{Client: 7, ID: 999999, Text: "ab|a=5;b+a;b*b"},
-		{Client: 5, ID: 6, Text: "what stands behind the list"},
-		{Client: 8, ID: -1, Expired: true, Text: "and this"},
-	}
-	was := append([]api.Record{}, whole...)
-	for length := 0; length <= len(whole); length++ {
-		first, firstErr := docket.Frame(0, whole[:length])
-		for i := range whole {
-			if whole[i] != was[i] {
-				t.Fatalf("P2: Frame wrote into its list of %d records, or behind it, at %d: %v", length, i, whole[i])
-			}
-		}
-		second, secondErr := docket.Frame(0, whole[:length])
-		if first != second || firstErr != secondErr {
-			t.Errorf("P2: Frame answers %q, %d and then %q, %d to the same list", first, firstErr, second, secondErr)
-		}
-	}
-}
-
 func TestApplyHangsOnItsArgumentsAlone(t *testing.T) {
 	texts := []string{"ab|a+5;b+a;b*b", "a|a=5;b+a", "ab|a=9;b=9;a~8", "a|a=01", "abcdefgh|a=b;b=c;c=d;d=e;e=f;f=g;g=h;h=0", "a|a=9;a=x", "", "h|h*h"}
 	for _, text := range texts {

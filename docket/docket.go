@@ -3,6 +3,7 @@ package docket
 
 import (
 	"docket/api"
+	"docket/epoch"
 	"docket/transaction"
 )
 
@@ -20,10 +21,18 @@ func Apply(text string, cells api.Cells) (api.Cells, bool, api.Errno) {
 }
 
 // Frame writes an epoch (P4).
-func Frame(n int, records []api.Record) (string, api.Errno) { return "", api.OK }
+func Frame(n int, records []api.Record) (string, api.Errno) {
+	text, ok := epoch.Write(n, records)
+	if !ok {
+		return "", api.ErrRecord
+	}
+	return text, api.OK
+}
 
 // Scan tells how many epochs a log begins with, and how many bytes these are (P5).
-func Scan(log string) (int, int) { return 0, 0 }
+func Scan(log string) (int, int) {
+	return epoch.Scan(log)
+}
 
 // New makes a cluster (P6).
 func New(c api.Conf) (*Cluster, api.Errno) { return nil, api.OK }
