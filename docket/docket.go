@@ -4,11 +4,14 @@ package docket
 import (
 	"docket/api"
 	"docket/epoch"
+	"docket/sequencer"
 	"docket/transaction"
 )
 
 // Cluster is a sequencer with its clients' queues, the log, and replicas.
-type Cluster struct{}
+type Cluster struct {
+	sequencer sequencer.Sequencer
+}
 
 // Apply does a transaction on cells (P3).
 func Apply(text string, cells api.Cells) (api.Cells, bool, api.Errno) {
@@ -35,19 +38,36 @@ func Scan(log string) (int, int) {
 }
 
 // New makes a cluster (P6).
-func New(c api.Conf) (*Cluster, api.Errno) { return nil, api.OK }
+func New(c api.Conf) (*Cluster, api.Errno) {
+	if c.Replicas < 1 || c.Replicas > api.MaxReplicas {
+		return nil, api.ErrConf
+	}
+	s, ok := sequencer.New(c)
+	if !ok {
+		return nil, api.ErrConf
+	}
+	return &Cluster{sequencer: s}, api.OK
+}
 
 // Submit hands in a transaction (P7).
-func (c *Cluster) Submit(client int, id int, text string, deadline int) api.Errno { return api.OK }
+func (c *Cluster) Submit(client int, id int, text string, deadline int) api.Errno {
+	return c.sequencer.Submit(client, id, text, deadline)
+}
 
 // Fill fills the next epoch (P8).
-func (c *Cluster) Fill() (int, api.Errno) { return 0, api.OK }
+func (c *Cluster) Fill() (int, api.Errno) {
+	return c.sequencer.Fill()
+}
 
 // Log tells all epochs as bytes (P9).
-func (c *Cluster) Log() string { return "" }
+func (c *Cluster) Log() string {
+	return c.sequencer.Log()
+}
 
 // Reply tells what became of a transaction (P9).
-func (c *Cluster) Reply(id int) (api.Reply, api.Errno) { return api.Reply{}, api.OK }
+func (c *Cluster) Reply(id int) (api.Reply, api.Errno) {
+	return c.sequencer.Reply(id)
+}
 
 // Send brings an epoch to a replica (P10).
 func (c *Cluster) Send(replica int, n int) api.Errno { return api.OK }

@@ -1,4 +1,4 @@
-// Package epoch writes epochs as bytes and reads them again.
+// Package epoch writes epochs as bytes, reads them again, and does their records.
 package epoch
 
 import (

@@ -55,3 +55,26 @@ func TestWriteRefuses(t *testing.T) {
 		}
 	}
 }
+
+func TestDo(t *testing.T) {
+	was := api.Cells{5, 6}
+	for _, c := range []struct {
+		r     api.Record
+		after api.Cells
+		state api.State
+	}{
+		{api.Record{Text: "ab|a+b"}, api.Cells{11, 6}, api.Done},
+		{api.Record{Text: "a|a~5"}, was, api.Done},
+		{api.Record{Text: "a|a=1;a~5"}, was, api.Aborted},
+		{api.Record{Text: "a|a=1;b=1"}, was, api.Aborted},
+		{api.Record{Expired: true}, was, api.Expired},
+		{api.Record{Expired: true, Text: "a|a=1"}, was, api.Expired},
+		{api.Record{Text: ""}, was, api.Aborted},
+		{api.Record{Text: "a|a=1;"}, was, api.Aborted},
+	} {
+		after, state := Do(c.r, was)
+		if after != c.after || state != c.state {
+			t.Errorf("Do(%+v, %v) = %v, %d, want %v, %d", c.r, was, after, state, c.after, c.state)
+		}
+	}
+}

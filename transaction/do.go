@@ -2,6 +2,11 @@ package transaction
 
 import "docket/api"
 
+// Cost is how many operations the transaction has.
+func (t Transaction) Cost() int {
+	return len(t.ops)
+}
+
 // Do answers the cells behind the transaction and true; if it is aborted, the cells as they were and false.
 func (t Transaction) Do(cells api.Cells) (api.Cells, bool) {
 	after := cells

@@ -33,3 +33,17 @@ func TestParseRefuses(t *testing.T) {
 		}
 	}
 }
+
+func TestCost(t *testing.T) {
+	for _, c := range []struct {
+		text string
+		cost int
+	}{
+		{"|b~0", 1}, {"abcdefgh|a=1", 1}, {"a|a=1;a<3", 2}, {"ab|a=5;b+a;b*b", 3}, {"a|a=1;a=1;a=1;a=1;a=1;a=1;a=1", 7}, {"a|b=1;b=1;b=1;b=1;b=1;b=1;b=1;b=1", 8},
+	} {
+		read, ok := Parse(c.text)
+		if cost := read.Cost(); !ok || cost != c.cost {
+			t.Errorf("the cost of %q is %d, want %d", c.text, cost, c.cost)
+		}
+	}
+}
