@@ -99,6 +99,12 @@ func fillTimes(t *testing.T, c *docket.Cluster, count int) {
 
 // The document's examples 3 and 4.
 func TestClusterExample(t *testing.T) {
+	exampleCluster(t)
+}
+
+// exampleCluster: as it is behind these examples.
+func exampleCluster(t *testing.T) *docket.Cluster {
+	t.Helper()
 	six := "b|b=1;b+1;b+1;b+1;b+1;b+1"
 	eight := "a|a=1;a+1;a+1;a+1;a+1;a+1;a+1;a+1"
 	c := newCluster(t, api.Conf{Clients: 2, Queue: 2, Quantum: 3, Room: 8, Replicas: 1})
@@ -124,4 +130,5 @@ func TestClusterExample(t *testing.T) {
 	wantReply(t, c, 6, api.Waiting, 0)
 	wantFill(t, c, 3, gone(0, 6))
 	wantReply(t, c, 6, api.Expired, 3)
+	return c
 }

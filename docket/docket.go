@@ -4,6 +4,7 @@ package docket
 import (
 	"docket/api"
 	"docket/epoch"
+	"docket/replica"
 	"docket/sequencer"
 	"docket/transaction"
 )
@@ -11,6 +12,7 @@ import (
 // Cluster is a sequencer with its clients' queues, the log, and replicas.
 type Cluster struct {
 	sequencer sequencer.Sequencer
+	replicas  []replica.Replica
 }
 
 // Apply does a transaction on cells (P3).
@@ -46,7 +48,7 @@ func New(c api.Conf) (*Cluster, api.Errno) {
 	if !ok {
 		return nil, api.ErrConf
 	}
-	return &Cluster{sequencer: s}, api.OK
+	return &Cluster{sequencer: s, replicas: make([]replica.Replica, c.Replicas)}, api.OK
 }
 
 // Submit hands in a transaction (P7).
@@ -70,19 +72,56 @@ func (c *Cluster) Reply(id int) (api.Reply, api.Errno) {
 }
 
 // Send brings an epoch to a replica (P10).
-func (c *Cluster) Send(replica int, n int) api.Errno { return api.OK }
+func (c *Cluster) Send(replica int, n int) api.Errno {
+	if !c.hasReplica(replica) {
+		return api.ErrReplica
+	}
+	text := c.sequencer.Epoch(n)
+	return c.replicas[replica].Take(n, text)
+}
 
 // Sync makes what a replica has safe (P10).
-func (c *Cluster) Sync(replica int) api.Errno { return api.OK }
+func (c *Cluster) Sync(replica int) api.Errno {
+	if !c.hasReplica(replica) {
+		return api.ErrReplica
+	}
+	c.replicas[replica].Sync()
+	return api.OK
+}
 
 // Crash lets a replica lose what was not safe (P11).
-func (c *Cluster) Crash(replica int, keep int) api.Errno { return api.OK }
+func (c *Cluster) Crash(replica int, keep int) api.Errno {
+	if !c.hasReplica(replica) {
+		return api.ErrReplica
+	}
+	c.replicas[replica].Crash(keep)
+	return api.OK
+}
 
 // Disk tells a replica's bytes (P12).
-func (c *Cluster) Disk(replica int) (string, api.Errno) { return "", api.OK }
+func (c *Cluster) Disk(replica int) (string, api.Errno) {
+	if !c.hasReplica(replica) {
+		return "", api.ErrReplica
+	}
+	return c.replicas[replica].Disk(), api.OK
+}
 
 // Count tells how many epochs a replica has (P12).
-func (c *Cluster) Count(replica int) (int, api.Errno) { return 0, api.OK }
+func (c *Cluster) Count(replica int) (int, api.Errno) {
+	if !c.hasReplica(replica) {
+		return 0, api.ErrReplica
+	}
+	return c.replicas[replica].Count(), api.OK
+}
 
 // Get tells what a key holds at a replica (P12).
-func (c *Cluster) Get(replica int, key string) (int, api.Errno) { return 0, api.OK }
+func (c *Cluster) Get(replica int, key string) (int, api.Errno) {
+	if !c.hasReplica(replica) {
+		return 0, api.ErrReplica
+	}
+	return c.replicas[replica].Get(key)
+}
+
+func (c *Cluster) hasReplica(replica int) bool {
+	return replica >= 0 && replica < len(c.replicas)
+}

@@ -7,7 +7,7 @@ import (
 
 // Fill fills the next epoch, and tells how many records it has.
 func (s *Sequencer) Fill() (int, api.Errno) {
-	if s.epochs >= api.MaxEpochs {
+	if len(s.epochs) >= api.MaxEpochs {
 		return 0, api.ErrMany
 	}
 	records := s.takeLate()
@@ -15,16 +15,15 @@ func (s *Sequencer) Fill() (int, api.Errno) {
 	records = append(records, visited...)
 	s.settle(records)
 	// What was taken in can be written: all queues together have no more than MaxRecords.
-	text, _ := epoch.Write(s.epochs, records)
-	s.log += text
-	s.epochs++
+	text, _ := epoch.Write(len(s.epochs), records)
+	s.epochs = append(s.epochs, text)
 	return len(records), api.OK
 }
 
 func (s *Sequencer) takeLate() []api.Record {
 	var records []api.Record
 	for i := 0; i < len(s.accounts); i++ {
-		late := s.accounts[i].takeLate(s.epochs)
+		late := s.accounts[i].takeLate(len(s.epochs))
 		for j := 0; j < len(late); j++ {
 			records = append(records, api.Record{Client: i, ID: late[j].id, Expired: true})
 		}
@@ -62,6 +61,6 @@ func (s *Sequencer) settle(records []api.Record) {
 	for i := 0; i < len(records); i++ {
 		after, state := epoch.Do(records[i], s.cells)
 		s.cells = after
-		s.settled = append(s.settled, outcome{id: records[i].ID, reply: api.Reply{State: state, Epoch: s.epochs}})
+		s.settled = append(s.settled, outcome{id: records[i].ID, reply: api.Reply{State: state, Epoch: len(s.epochs)}})
 	}
 }

@@ -13,9 +13,9 @@ type Sequencer struct {
 	room     int
 	accounts []account
 	// Where the visits of the next epoch begin: below len(accounts), if there are any.
-	first   int
-	epochs  int
-	log     string
+	first int
+	// The bytes of each epoch, so that one of them can be told without reading those ahead of it.
+	epochs  []string
 	cells   api.Cells
 	settled []outcome
 }
@@ -69,7 +69,7 @@ func (s *Sequencer) Submit(client int, id int, text string, deadline int) api.Er
 	if e == api.OK {
 		return api.ErrTwice
 	}
-	if deadline < s.epochs {
+	if deadline < len(s.epochs) {
 		return api.ErrLate
 	}
 	if len(s.accounts[client].queue) >= s.queue {
@@ -82,7 +82,19 @@ func (s *Sequencer) Submit(client int, id int, text string, deadline int) api.Er
 
 // Log tells the bytes of all epochs.
 func (s *Sequencer) Log() string {
-	return s.log
+	var log []byte
+	for i := 0; i < len(s.epochs); i++ {
+		log = append(log, s.epochs[i]...)
+	}
+	return string(log)
+}
+
+// Epoch tells the bytes of the epoch n: none, if there is no such epoch.
+func (s *Sequencer) Epoch(n int) string {
+	if n < 0 || n >= len(s.epochs) {
+		return ""
+	}
+	return s.epochs[n]
 }
 
 // Reply tells what became of a transaction that was taken in.

@@ -38,6 +38,25 @@ func TestSequencerWithoutClients(t *testing.T) {
 	}
 }
 
+func TestEpoch(t *testing.T) {
+	s, _ := New(api.Conf{Clients: 1, Queue: 1, Quantum: 1, Room: 8})
+	for n := 0; n < 5; n++ {
+		was := s.Log()
+		for _, none := range []int{math.MinInt, -1, n, n + 1, 200, math.MaxInt} {
+			if text := s.Epoch(none); text != "" {
+				t.Errorf("at %d epochs Epoch(%d) = %q", n, none, text)
+			}
+		}
+		if n%2 == 1 {
+			s.Submit(0, n, "a|a=1", n)
+		}
+		s.Fill()
+		if s.Log() != was+s.Epoch(n) || s.Epoch(n) == "" {
+			t.Errorf("Epoch(%d) = %q, the log is %q, was %q", n, s.Epoch(n), s.Log(), was)
+		}
+	}
+}
+
 // What has left a queue is not kept in it, nor behind it.
 func TestQueueKeepsNothingThatLeft(t *testing.T) {
 	a := account{}
